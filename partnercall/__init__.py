@@ -1,0 +1,1 @@
+"""Partnercall: couples that are called. The functions stand in the modules of this package."""

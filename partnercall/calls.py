@@ -1,0 +1,68 @@
+"""Calls: two people who are called become a couple."""
+
+from partnercall.errors import NoPerson
+
+
+def check_call(size, call):
+    """Raise NoPerson for the first integer of a CALL that is not one of size people."""
+    for person in call:
+        if not 0 <= person < size:
+            raise NoPerson(person)
+
+
+def check_word(size, word):
+    """Raise NoPerson for the first integer of a WORD that is not one of size people."""
+    for call in word:
+        check_call(size, call)
+
+
+def join_two(joined, a, b):
+    """Join a and b in the list joined, and the two that are left; tell whether this changes it.
+
+    Partners and the ends of a sheet are joined in the same way, so both use this.
+    """
+    left = joined[a]
+    right = joined[b]
+    if left == b:
+        return False
+    joined[a] = b
+    joined[b] = a
+    joined[left] = right
+    joined[right] = left
+    return True
+
+
+def called(pairing, call):
+    """Return the PAIRING after a CALL."""
+    return called_all(pairing, [call])
+
+
+def called_all(pairing, word):
+    """Return the PAIRING after all CALLs of a WORD."""
+    check_word(len(pairing), word)
+    partners = list(pairing)
+    for a, b in word:
+        join_two(partners, a, b)
+    return tuple(partners)
+
+
+def pairings_along(pairing, word):
+    """Return the list of the PAIRING before the first CALL and after each CALL."""
+    check_word(len(pairing), word)
+    partners = list(pairing)
+    along = [tuple(partners)]
+    for a, b in word:
+        join_two(partners, a, b)
+        along.append(tuple(partners))
+    return along
+
+
+def idle_calls(pairing, word):
+    """Return the ascending list of the indices of the CALLs that change nothing."""
+    check_word(len(pairing), word)
+    partners = list(pairing)
+    idle = []
+    for at, (a, b) in enumerate(word):
+        if not join_two(partners, a, b):
+            idle.append(at)
+    return idle

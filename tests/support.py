@@ -1,0 +1,127 @@
+"""What several tests use: other ways to pass arguments, and all or some pairings, sheets and words.
+
+Nothing here uses the program, so that it can be compared with what stands here.
+"""
+
+import copy
+import random
+
+ODD_VALUES = [
+    None, True, False, 0, 1, -1, 7, 10 ** 30, "", "1", "10", "(1, 0)", [], (), [[]], ((),), [()],
+    [1, 0], [1, 0, 3, 2], [2, 3, 0, 1], (None,), (None, None), ("1", "0"), ("1", 0), (1, "0"),
+    (True, False), (1, False), (True, 0), (True, 0, 3, 2), (1, False, 3, 2), (2, 3, False, True),
+    (2, 3, 0, True), (2, 3, False, 1), (0,), (0, 1), (0, 0), (1, 1), (1,), (1, 0, 2), (1, 2, 0),
+    (1, 2, 0, 3), (1, 2, 3, 0), (1, 0, 2, 3), (1, 0, 3, 3), (1, 0, 1, 0), (1, 0, 3, 4), (1, 0, 4, 2),
+    (-1, -2), (-1, 0), (1, -2), (1, 0, -1, -2), (1, 0, 3, -2), (3, 2, 1, -4), (2, 1), (1, 2),
+    (10 ** 30, 0), (1, 10 ** 30), (-10 ** 30, 0), (1, -3), (1, 0, 3, -9),
+    ((1, 0),), ((1, 0), (3, 2)), ([1], [0]), ((1,), (0,)), ("a", "b"),
+    [(0, 1), (2, 3)], ((0, 1), (2, 3)), (1, 0, None, 2), (1, 0, "3", 2), (1, 0, (3,), 2), (1, 0, [3], [2]),
+    [[[[[[[[1]]]]]]]], (((((((1, 0),),),),),),), (1, 0, 3, 2, 4), (1, 0, 3, 2, None), tuple([0] * 40),
+    list(range(40)), tuple(range(40)),
+]
+
+
+def as_lists(value):
+    """Lists in place of tuples, at any depth."""
+    if isinstance(value, (list, tuple)):
+        return [as_lists(item) for item in value]
+    return value
+
+
+def as_tuples(value):
+    """Tuples in place of lists, at any depth."""
+    if isinstance(value, (list, tuple)):
+        return tuple(as_tuples(item) for item in value)
+    return value
+
+
+def swapped(value):
+    """Lists in place of tuples and tuples in place of lists, at any depth."""
+    if isinstance(value, tuple):
+        return [swapped(item) for item in value]
+    if isinstance(value, list):
+        return tuple(swapped(item) for item in value)
+    return value
+
+
+def spoil(value):
+    """Change a list that was returned, and the lists in it."""
+    if isinstance(value, list):
+        for item in value:
+            spoil(item)
+        value.reverse()
+        value.append("spoilt")
+
+
+def check_answer(test, function, expected, **arguments):
+    """Check an answer in every way in which the arguments may be passed.
+
+    The texts are compared, since 1 equals True. The names are given in the order of the parameters.
+    """
+    for form in (copy.deepcopy, as_lists, as_tuples, swapped):
+        passed = {name: form(worth) for name, worth in arguments.items()}
+        before = repr(passed)
+        # A list that was returned belongs to the caller: changing it must not show in the next answer.
+        for ask in (lambda: function(*passed.values()), lambda: function(**passed)):
+            answer = ask()
+            test.assertEqual(repr(answer), repr(expected))
+            spoil(answer)
+            answer = ask()
+            test.assertEqual(repr(answer), repr(expected))
+        test.assertEqual(repr(passed), before)
+
+
+def check_error(test, function, error, attributes, **arguments):
+    """Check an error in every way in which the arguments may be passed."""
+    for form in (copy.deepcopy, as_lists, as_tuples, swapped):
+        passed = {name: form(worth) for name, worth in arguments.items()}
+        before = repr(passed)
+        for ask in (lambda: function(*passed.values()), lambda: function(**passed)):
+            with test.assertRaises(error) as caught:
+                ask()
+            test.assertIs(caught.exception.__class__, error)
+            found = {name: getattr(caught.exception, name) for name in attributes}
+            test.assertEqual(repr(found), repr(attributes))
+        test.assertEqual(repr(passed), before)
+
+
+def all_joinings(size):
+    """All tuples that join the numbers below size in pairs, in no particular order."""
+    found = []
+
+    def go_on(free, joined):
+        if not free:
+            found.append(tuple(joined[x] for x in range(size)))
+            return
+        for y in free[1:]:
+            rest = [x for x in free if x not in (free[0], y)]
+            go_on(rest, {**joined, free[0]: y, y: free[0]})
+
+    go_on(list(range(size)), {})
+    return found
+
+
+def some_joining(chance, size):
+    """A tuple that joins the numbers below size in pairs, by chance."""
+    order = list(range(size))
+    chance.shuffle(order)
+    joined = [0] * size
+    for at in range(0, size, 2):
+        joined[order[at]] = order[at + 1]
+        joined[order[at + 1]] = order[at]
+    return tuple(joined)
+
+
+def some_call(chance, size):
+    """A call of two of size people, by chance."""
+    return tuple(sorted(chance.sample(range(size), 2)))
+
+
+def some_word(chance, size, length):
+    """A word of so many calls of size people, by chance."""
+    return [some_call(chance, size) for step in range(length)]
+
+
+def fixed_chance(seed):
+    """A source of chance that gives the same in every run."""
+    return random.Random(seed)
