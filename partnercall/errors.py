@@ -1,11 +1,15 @@
-"""The errors of the package, each with what was wrong in its attributes."""
+"""The errors of the package, each with what was wrong in its attributes.
+
+No message has an integer in it: Python refuses to write integers of more than some thousand digits, and an error
+must be made whatever integer was passed.
+"""
 
 
 class NoPerson(LookupError):
     """A number is not one of the people."""
 
     def __init__(self, person):
-        LookupError.__init__(self, f"there is no person {person}")
+        LookupError.__init__(self, "this is not one of the people")
         self.person = person
 
 
@@ -13,7 +17,7 @@ class NoNumber(LookupError):
     """Nothing has this number."""
 
     def __init__(self, number):
-        LookupError.__init__(self, f"nothing has the number {number}")
+        LookupError.__init__(self, "nothing has this number")
         self.number = number
 
 
@@ -21,7 +25,7 @@ class NoDeed(LookupError):
     """There are not so many deeds."""
 
     def __init__(self, many):
-        LookupError.__init__(self, f"there is no state after {many} deeds")
+        LookupError.__init__(self, "there are not so many deeds")
         self.many = many
 
 
@@ -29,7 +33,7 @@ class OtherSize(ValueError):
     """The second of two arguments has another number of people than the first."""
 
     def __init__(self, size):
-        ValueError.__init__(self, f"the second one has another number of people: {size}")
+        ValueError.__init__(self, "the second one has another number of people")
         self.size = size
 
 
@@ -37,7 +41,7 @@ class NotResult(ValueError):
     """A lower pair is no couple of the pairing."""
 
     def __init__(self, pair):
-        ValueError.__init__(self, f"not a result: {pair} is no couple")
+        ValueError.__init__(self, "not a result: a lower pair is no couple")
         # A list is copied into a tuple, so that a later change of it has no effect here.
         self.pair = tuple(pair) if isinstance(pair, list) else pair
 
@@ -60,7 +64,7 @@ class BadDeed(ValueError):
     """An item is not a deed."""
 
     def __init__(self, at):
-        ValueError.__init__(self, f"item {at} is not a deed")
+        ValueError.__init__(self, "an item is not a deed")
         self.at = at
 
 
@@ -68,7 +72,7 @@ class BadText(ValueError):
     """A word of a text is wrong."""
 
     def __init__(self, at):
-        ValueError.__init__(self, f"word {at} of the text is wrong")
+        ValueError.__init__(self, "a word of the text is wrong")
         self.at = at
 
 
@@ -76,7 +80,7 @@ class BadLine(ValueError):
     """A line has none of the forms of a line."""
 
     def __init__(self, at):
-        ValueError.__init__(self, f"line {at} is wrong")
+        ValueError.__init__(self, "a line is wrong")
         self.at = at
 
 
@@ -84,7 +88,7 @@ class NotSettled(RuntimeError):
     """A sheet has several results."""
 
     def __init__(self, many):
-        RuntimeError.__init__(self, f"not settled: there are {many} results")
+        RuntimeError.__init__(self, "not settled: there are several results")
         self.many = many
 
 
@@ -99,5 +103,5 @@ class TooMany(OverflowError):
     """A search has too many people."""
 
     def __init__(self, size):
-        OverflowError.__init__(self, f"too many people for a search: {size}")
+        OverflowError.__init__(self, "too many people for a search")
         self.size = size

@@ -64,6 +64,18 @@ class Errors(unittest.TestCase):
                 raise getattr(errors, name)(*values)
             self.assertNotEqual(str(caught.exception), "")
 
+    def test_great_integers(self):
+        for name, base, attributes in KINDS:
+            for integer in (10 ** 5000, -10 ** 5000, 10 ** 4300, -10 ** 4299):
+                for attribute in attributes:
+                    worth = (0, integer) if attribute == "pair" else integer
+                    with self.subTest(name, digits=integer.bit_length()):
+                        error = getattr(errors, name)(worth)
+                        self.assertTrue(getattr(error, attribute) == worth)
+                        # Whoever shows the error must be able to.
+                        self.assertNotEqual(str(error), "")
+                        self.assertNotEqual(repr(error), "")
+
     def test_pair_is_copied(self):
         pair = [0, 1]
         error = errors.NotResult(pair)
