@@ -3,11 +3,16 @@
 from partnercall.errors import NoPerson
 
 
+def check_person(size, person):
+    """Raise NoPerson if an integer is not one of size people."""
+    if not 0 <= person < size:
+        raise NoPerson(person)
+
+
 def check_call(size, call):
     """Raise NoPerson for the first integer of a CALL that is not one of size people."""
     for person in call:
-        if not 0 <= person < size:
-            raise NoPerson(person)
+        check_person(size, person)
 
 
 def check_word(size, word):

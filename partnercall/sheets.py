@@ -19,6 +19,12 @@ def people_of(sheet):
     return len(sheet) // 2
 
 
+def check_sizes(first, second):
+    """Raise OtherSize if the second one of two numbers of people differs from the first one."""
+    if first != second:
+        raise OtherSize(second)
+
+
 def empty_sheet(size):
     """Return the empty SHEET of size people."""
     return tuple(list(range(size, 2 * size)) + list(range(size)))
@@ -79,8 +85,7 @@ def far_end(one, other, start):
 
 def followed(one, other):
     """Return the SHEET for one followed by other."""
-    if len(one) != len(other):
-        raise OtherSize(people_of(other))
+    check_sizes(people_of(one), people_of(other))
     return tuple([far_end(one, other, start) for start in range(len(one))])
 
 

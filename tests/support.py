@@ -53,13 +53,18 @@ def spoil(value):
         value.append("spoilt")
 
 
+def in_all_forms(arguments):
+    """The arguments in all forms in which they may be passed; one called value keeps its form."""
+    for form in (copy.deepcopy, as_lists, as_tuples, swapped):
+        yield {name: worth if name == "value" else form(worth) for name, worth in arguments.items()}
+
+
 def check_answer(test, function, expected, **arguments):
     """Check an answer in every way in which the arguments may be passed.
 
     The texts are compared, since 1 equals True. The names are given in the order of the parameters.
     """
-    for form in (copy.deepcopy, as_lists, as_tuples, swapped):
-        passed = {name: form(worth) for name, worth in arguments.items()}
+    for passed in in_all_forms(arguments):
         before = repr(passed)
         # A list that was returned belongs to the caller: changing it must not show in the next answer.
         for ask in (lambda: function(*passed.values()), lambda: function(**passed)):
@@ -73,8 +78,7 @@ def check_answer(test, function, expected, **arguments):
 
 def check_error(test, function, error, attributes, **arguments):
     """Check an error in every way in which the arguments may be passed."""
-    for form in (copy.deepcopy, as_lists, as_tuples, swapped):
-        passed = {name: form(worth) for name, worth in arguments.items()}
+    for passed in in_all_forms(arguments):
         before = repr(passed)
         for ask in (lambda: function(*passed.values()), lambda: function(**passed)):
             with test.assertRaises(error) as caught:
@@ -83,6 +87,84 @@ def check_error(test, function, error, attributes, **arguments):
             found = {name: getattr(caught.exception, name) for name in attributes}
             test.assertEqual(repr(found), repr(attributes))
         test.assertEqual(repr(passed), before)
+
+
+def check_great(test, function, error, attribute, great, **arguments):
+    """Check an error about an integer that is too great to be written."""
+    with test.assertRaises(error) as caught:
+        function(**arguments)
+    test.assertIs(caught.exception.__class__, error)
+    test.assertTrue(getattr(caught.exception, attribute) == great)
+
+
+def one_call(pairing, call):
+    """The pairing after one call, as [1] tells it, by taking couples away and adding new ones."""
+    standing = {frozenset((x, pairing[x])) for x in range(len(pairing))}
+    if frozenset(call) in standing:
+        return pairing
+    a, b = call
+    torn = {couple for couple in standing if a in couple or b in couple}
+    left = frozenset().union(*torn) - {a, b}
+    standing = (standing - torn) | {frozenset(call), left}
+    return tuple(next(y for couple in standing if x in couple for y in couple - {x}) for x in range(len(pairing)))
+
+
+def along_one_by_one(pairing, word):
+    along = [pairing]
+    for call in word:
+        along.append(one_call(along[-1], call))
+    return along
+
+
+def ends_reached(sheet, pairing, person):
+    """All ends that are reached from a person's lower end along joins and couples, the nearer ones first."""
+    size = len(sheet) // 2
+    reached = [size + person]
+    for end in reached:
+        near = [sheet[end]] + ([pairing[end]] if end < size else [])
+        reached.extend(other for other in near if other not in reached)
+    return reached
+
+
+def result_reached(sheet, pairing):
+    """The pairing in which those are partners whose lower ends are reached from each other."""
+    size = len(sheet) // 2
+    found = []
+    for person in range(size):
+        far = [end - size for end in ends_reached(sheet, pairing, person) if end >= size and end != size + person]
+        assert len(far) == 1
+        found.append(far[0])
+    return tuple(found)
+
+
+def lower_pairs_of(sheet):
+    size = len(sheet) // 2
+    return [(x, sheet[size + x] - size) for x in range(size) if sheet[size + x] > size + x]
+
+
+def sheet_of_joins(size, upper, lower, between):
+    """The sheet with these upper pairs, lower pairs and strands."""
+    joins = upper + [(size + x, size + y) for x, y in lower] + [(x, size + y) for x, y in between]
+    sheet = [None] * (2 * size)
+    for end, other in joins:
+        sheet[end], sheet[other] = other, end
+    return tuple(sheet)
+
+
+def some_sheet(chance, size, strands_many):
+    """A sheet with so many strands, by chance."""
+    above, below = list(range(size)), list(range(size))
+    chance.shuffle(above)
+    chance.shuffle(below)
+    upper = [(above[at], above[at + 1]) for at in range(strands_many, size, 2)]
+    lower = [(below[at], below[at + 1]) for at in range(strands_many, size, 2)]
+    return sheet_of_joins(size, upper, lower, list(zip(above[:strands_many], below[:strands_many])))
+
+
+def sheet_of_strands(numbers):
+    """The sheet whose strands go from the upper end of x to the lower end of numbers[x]."""
+    size = len(numbers)
+    return tuple([size + y for y in numbers] + [numbers.index(y) for y in range(size)])
 
 
 def all_joinings(size):

@@ -4,29 +4,12 @@ import unittest
 
 from partnercall.calls import called, called_all, idle_calls, pairings_along
 from partnercall.errors import NoPerson
-from support import all_joinings, check_answer, check_error, fixed_chance, some_joining, some_word
+from support import (
+    all_joinings, along_one_by_one, check_answer, check_error, fixed_chance, one_call, some_joining, some_word,
+)
 
 P = (1, 0, 3, 2)
 WORD_FUNCTIONS = (called_all, pairings_along, idle_calls)
-
-
-def one_call(pairing, call):
-    """The pairing after one call, as [1] tells it, by taking couples away and adding new ones."""
-    standing = {frozenset((x, pairing[x])) for x in range(len(pairing))}
-    if frozenset(call) in standing:
-        return pairing
-    a, b = call
-    torn = {couple for couple in standing if a in couple or b in couple}
-    left = frozenset().union(*torn) - {a, b}
-    standing = (standing - torn) | {frozenset(call), left}
-    return tuple(next(y for couple in standing if x in couple for y in couple - {x}) for x in range(len(pairing)))
-
-
-def along_one_by_one(pairing, word):
-    along = [pairing]
-    for call in word:
-        along.append(one_call(along[-1], call))
-    return along
 
 
 def check_word_functions(test, pairing, word):

@@ -3,9 +3,9 @@
 import re
 import unittest
 
-from partnercall import calls, errors, pairings, sheets
+from partnercall import calls, errors, pairings, reading, results, same, settling, sheets
 
-# The text of the examples of points [4], [5] and [6].
+# The text of the examples of points [4] to [10].
 EXAMPLES = """
 >>> [is_pairing((1, 0, 3, 2)), is_pairing((1, 2, 0, 3))]
 [True, False]
@@ -35,16 +35,50 @@ raises NoPerson(person=4)
 (1, 0, 4, 7, 2, 6, 5, 3)
 >>> [times(one, 10 ** 12), mirrored(with_call(one, (1, 2)))]
 [(1, 0, 6, 7, 5, 4, 2, 3), (6, 2, 1, 7, 5, 4, 0, 3)]
+>>> result(one, q)
+(1, 0, 3, 2)
+>>> [path(one, q, 2), path(one, q, 0)]
+[[6, 2, 0, 1, 3, 7], [4, 5]]
+>>> [shows_path(one, q, 2, [6, 2, 0, 1, 3, 7]), couples_on(one, q, 2)]
+[True, [(0, 2), (1, 3)]]
+>>> [results_many(one), results_many(wide), result_at(wide, 1)]
+[1, 3, (1, 0, 4, 5, 2, 3)]
+>>> [result_bar(wide, (2, 3, 0, 1, 5, 4)), result_number(wide, (1, 0, 5, 4, 3, 2))]
+[(0, 1), 2]
+>>> result_number(wide, (2, 3, 0, 1, 5, 4))
+raises NotResult(pair=(0, 1))
+>>> [beginnings_many(wide, six), beginnings_many(wide, (2, 3, 0, 1, 5, 4))]
+[5, 0]
+>>> [beginning_at(wide, six, 3), beginning_number(wide, (4, 5, 3, 2, 0, 1))]
+[(4, 5, 3, 2, 0, 1), 3]
+>>> [do_same(one, sheet_of(4, [(2, 3)])), do_same(wide, sheet_of(6, [(2, 3)]))]
+[True, False]
+>>> do_same(empty_sheet(4), (5, 4, 7, 6, 1, 0, 3, 2))
+True
+>>> parting(one, sheet_of(4, [(2, 3)]))
+None
+>>> shows_parting(wide, sheet_of(6, [(2, 3)]), (4, 2, 1, 5, 0, 3))
+True
+>>> [is_settled(one), settled_pairing(one), is_settled(wide)]
+[True, (1, 0, 3, 2), False]
+>>> settled_pairing(wide)
+raises NotSettled(many=3)
+>>> [sure_couples(wide), sure_couples(one), partners_of(wide, 2)]
+[[(0, 1)], [(0, 1), (2, 3)], [3, 4, 5]]
+>>> [fewest_to_settle(empty_sheet(6)), len(word_to_settle(empty_sheet(6))), settle_word(six)]
+[2, 2, [(0, 1), (2, 3)]]
 """
 
 
 def names_for_examples():
     names = {}
-    for module in (pairings, calls, sheets):
+    for module in (pairings, calls, sheets, reading, results, same, settling):
         names.update(vars(module))
     names["p"] = (1, 0, 3, 2)
     names["q"] = (2, 3, 0, 1)
+    names["six"] = (1, 0, 3, 2, 5, 4)
     names["one"] = sheets.sheet_of(4, [(0, 1)])
+    names["wide"] = sheets.sheet_of(6, [(0, 1)])
     return names
 
 
@@ -58,7 +92,7 @@ class Examples(unittest.TestCase):
     def test_examples(self):
         names = names_for_examples()
         lines = EXAMPLES.strip().split("\n")
-        self.assertEqual(len(lines), 2 * 14)
+        self.assertEqual(len(lines), 2 * 30)
         for query, expected in zip(lines[::2], lines[1::2]):
             with self.subTest(query):
                 self.assertTrue(query.startswith(">>> "))

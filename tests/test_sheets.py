@@ -6,7 +6,9 @@ from partnercall.errors import NoPerson, OtherSize
 from partnercall.sheets import (
     empty_sheet, followed, is_sheet, lower_pairs, mirrored, sheet_of, strands, times, upper_pairs, with_call,
 )
-from support import ODD_VALUES, all_joinings, check_answer, check_error, fixed_chance, some_joining, some_word
+from support import (
+    ODD_VALUES, all_joinings, check_answer, check_error, fixed_chance, sheet_of_strands, some_joining, some_word,
+)
 
 ONE = (1, 0, 6, 7, 5, 4, 2, 3)
 UP = "upper"
@@ -85,12 +87,6 @@ def is_sheet_as_described(value):
         if end.__class__ is not int or end not in range(len(value)):
             return False
     return all(value[end] != end and value[value[end]] == end for end in range(len(value)))
-
-
-def sheet_of_strands(numbers):
-    """The sheet whose strands go from the upper end of x to the lower end of numbers[x]."""
-    size = len(numbers)
-    return tuple([size + y for y in numbers] + [numbers.index(y) for y in range(size)])
 
 
 class IsSheet(unittest.TestCase):
