@@ -1,6 +1,7 @@
 """Calls: two people who are called become a couple."""
 
 from partnercall.errors import NoPerson
+from partnercall.pairings import is_integer_below
 
 
 def check_person(size, person):
@@ -19,6 +20,18 @@ def check_word(size, word):
     """Raise NoPerson for the first integer of a WORD that is not one of size people."""
     for call in word:
         check_call(size, call)
+
+
+def is_call(value, size):
+    """Tell whether value is a CALL of two of size people."""
+    if not isinstance(value, tuple) or len(value) != 2:
+        return False
+    return all([is_integer_below(person, size) for person in value]) and value[0] < value[1]
+
+
+def all_calls(size):
+    """Return the ascending list of all CALLs of size people."""
+    return [(a, b) for a in range(size) for b in range(a + 1, size)]
 
 
 def join_two(joined, a, b):

@@ -116,7 +116,11 @@ def far_upper_end(sheet, pairing, end):
 
 
 def choice_at(choices, number):
-    """Return the partner in the beginning with this number, and its number among those with this partner."""
+    """Return the choice in the list with this number, and the number of this list among those with this choice.
+
+    A list is made choice by choice, and the lists are in ascending order. The choices for its first place are
+    ascending pairs (choice, many): so many lists begin with it.
+    """
     at = 0
     rest = number
     while rest >= choices[at][1]:

@@ -4,15 +4,20 @@ from partnercall.calls import join_two
 from partnercall.pairings import is_pairing, pairing_at, pairing_of, pairings_many
 from partnercall.reading import result
 from partnercall.results import result_at
-from partnercall.sheets import check_sizes, lower_pairs, people_of, strands, upper_pairs
+from partnercall.sheets import check_sizes, people_of, strands
 
 
-def crossed(one, other):
-    """Tell whether other joins four strands of one crosswise, which no result shows."""
-    above = [x for x, y in strands(one)]
-    below = [y for x, y in strands(one)]
-    ways = [pairing_at(4, number) for number in range(pairings_many(4))]
-    return strands(other) in [[(above[at], below[way[at]]) for at in range(4)] for way in ways]
+def crossings(sheet):
+    """Return the three SHEETs that join the four strands of a SHEET crosswise, which no result shows."""
+    above = [x for x, y in strands(sheet)]
+    found = []
+    for number in range(pairings_many(4)):
+        ends = list(sheet)
+        for at, other in enumerate(pairing_at(4, number)):
+            ends[above[at]] = sheet[above[other]]
+            ends[sheet[above[other]]] = above[at]
+        found.append(tuple(ends))
+    return found
 
 
 def do_same(one, other):
@@ -26,9 +31,7 @@ def do_same(one, other):
         return result_at(one, 0) == result_at(other, 0)
     if first != 4 or second != 4:
         return False
-    if upper_pairs(one) != upper_pairs(other) or lower_pairs(one) != lower_pairs(other):
-        return False
-    return crossed(one, other)
+    return tuple(other) in crossings(one)
 
 
 def behind_call(sheet, call):

@@ -89,6 +89,15 @@ def check_error(test, function, error, attributes, **arguments):
         test.assertEqual(repr(passed), before)
 
 
+def check_is_word(test, word, size):
+    """Check that something is a list of calls of size people."""
+    test.assertIs(word.__class__, list)
+    for call in word:
+        test.assertIs(call.__class__, tuple)
+        test.assertTrue(all(person.__class__ is int for person in call))
+        test.assertIn(call, all_calls(size))
+
+
 def check_great(test, function, error, attribute, great, **arguments):
     """Check an error about an integer that is too great to be written."""
     with test.assertRaises(error) as caught:
@@ -192,6 +201,45 @@ def some_joining(chance, size):
         joined[order[at]] = order[at + 1]
         joined[order[at + 1]] = order[at]
     return tuple(joined)
+
+
+def all_calls(size):
+    """All calls of size people, ascending."""
+    return [(a, b) for a in range(size) for b in range(a + 1, size)]
+
+
+def sheet_one_call(sheet, call):
+    """The sheet with one call added, as [6] tells it."""
+    size = len(sheet) // 2
+    a, b = size + call[0], size + call[1]
+    if sheet[a] == b:
+        return sheet
+    joined = {end: other for end, other in enumerate(sheet)}
+    u, v = joined[a], joined[b]
+    joined.update({a: b, b: a, u: v, v: u})
+    return tuple(joined[end] for end in range(2 * size))
+
+
+def sheet_one_by_one(size, word):
+    """The sheet of a word, call by call."""
+    sheet = tuple(range(size, 2 * size)) + tuple(range(size))
+    for call in word:
+        sheet = sheet_one_call(sheet, call)
+    return sheet
+
+
+def parts_of(sheet):
+    """The upper pairs, the lower pairs and the strands of a sheet."""
+    size = len(sheet) // 2
+    upper = [(x, sheet[x]) for x in range(size) if x < sheet[x] < size]
+    return upper, lower_pairs_of(sheet), [(x, sheet[x] - size) for x in range(size) if sheet[x] >= size]
+
+
+def with_strands_in_order(sheet, order):
+    """The sheet with the lower ends of its first strands in another order."""
+    upper, lower, between = parts_of(sheet)
+    moved = [(between[at][0], between[order[at]][1]) for at in range(len(order))]
+    return sheet_of_joins(len(sheet) // 2, upper, lower, moved + between[len(order):])
 
 
 def some_call(chance, size):

@@ -3,9 +3,11 @@
 import re
 import unittest
 
-from partnercall import calls, errors, pairings, reading, results, same, settling, sheets
+from partnercall import (
+    between, calls, errors, fewest, pairings, reading, repeats, results, same, settling, sheets, small,
+)
 
-# The text of the examples of points [4] to [10].
+# The text of the examples of points [4] to [14].
 EXAMPLES = """
 >>> [is_pairing((1, 0, 3, 2)), is_pairing((1, 2, 0, 3))]
 [True, False]
@@ -67,12 +69,46 @@ raises NotSettled(many=3)
 [[(0, 1)], [(0, 1), (2, 3)], [3, 4, 5]]
 >>> [fewest_to_settle(empty_sheet(6)), len(word_to_settle(empty_sheet(6))), settle_word(six)]
 [2, 2, [(0, 1), (2, 3)]]
+>>> [cycles(p, q), cycles(p, p)]
+[[(0, 1, 3, 2)], [(0, 1), (2, 3)]]
+>>> [distance(p, q), words_many(p, q), distance(six, (5, 2, 1, 4, 3, 0)), words_many(six, (5, 2, 1, 4, 3, 0))]
+[1, 2, 2, 12]
+>>> [word_at(p, q, 0), word_number(p, q, [(1, 3)])]
+[[(0, 2)], 1]
+>>> word_number(p, q, [(0, 1)])
+raises NotShortest
+>>> [leads(p, q, [(0, 3), (0, 2)]), leads(p, q, [(0, 3)])]
+[True, False]
+>>> [loops(one), loops((1, 0, 7, 6, 5, 4, 3, 2)), pure_loops((1, 0, 7, 6, 5, 4, 3, 2))]
+[[(0, 1), (2,), (3,)], [(0, 1), (2, 3)], [(2, 3)]]
+>>> [fewest_calls(one), fewest_calls((1, 0, 7, 6, 5, 4, 3, 2)), len(word_for((1, 0, 7, 6, 5, 4, 3, 2)))]
+[1, 4, 4]
+>>> fewest_calls((5, 4, 6, 7, 1, 0, 2, 3))
+raises NoWord
+>>> [fewest_same((1, 0, 7, 6, 5, 4, 3, 2)), fewest_same((5, 4, 7, 6, 1, 0, 3, 2)), word_same((5, 4, 7, 6, 1, 0, 3, 2))]
+[1, 0, []]
+>>> fewest_same((5, 4, 6, 7, 1, 0, 2, 3))
+raises NoWord
+>>> [repeated(q, [(0, 1)], 10 ** 12), repeated(six, [(1, 2), (3, 4), (0, 1), (2, 3)], 0)]
+[(1, 0, 3, 2), (1, 0, 3, 2, 5, 4)]
+>>> [settles(q, [(0, 1)]), settles(p, [])]
+[(1, 1), (0, 1)]
+>>> [sheet_settles(4, [(0, 1)]), sheet_settles(4, [])]
+[(1, 1), (0, 1)]
+>>> [first_time(q, [(0, 1)], 0, 1), first_time(q, [(0, 1)], 0, 3)]
+[1, None]
+>>> [len(all_sheets(2)), len(all_sheets(4)), all_sheets(2)]
+[2, 82, [(1, 0, 3, 2), (2, 3, 0, 1)]]
+>>> [first_word((1, 0, 4, 7, 2, 6, 5, 3)), first_word((5, 4, 6, 7, 1, 0, 2, 3))]
+[[(0, 1), (1, 2)], None]
+>>> [words_with(one, 1), words_with(one, 2), words_with(empty_sheet(4), 1)]
+[1, 1, 0]
 """
 
 
 def names_for_examples():
     names = {}
-    for module in (pairings, calls, sheets, reading, results, same, settling):
+    for module in (pairings, calls, sheets, reading, results, same, settling, between, fewest, repeats, small):
         names.update(vars(module))
     names["p"] = (1, 0, 3, 2)
     names["q"] = (2, 3, 0, 1)
@@ -92,7 +128,7 @@ class Examples(unittest.TestCase):
     def test_examples(self):
         names = names_for_examples()
         lines = EXAMPLES.strip().split("\n")
-        self.assertEqual(len(lines), 2 * 30)
+        self.assertEqual(len(lines), 2 * 47)
         for query, expected in zip(lines[::2], lines[1::2]):
             with self.subTest(query):
                 self.assertTrue(query.startswith(">>> "))

@@ -17,6 +17,13 @@ BUILTINS = (
 ).split()
 
 
+METHODS = (
+    "append clear copy count endswith extend find get index insert isalnum isalpha isdigit islower isspace isupper "
+    "items join keys ljust lower lstrip partition pop remove replace reverse rfind rjust rpartition rsplit rstrip "
+    "setdefault split splitlines startswith strip update upper values zfill bit_length add discard"
+).split()
+
+
 def sources():
     return {path: path.read_text("ascii") for path in sorted(FOLDER.glob("*.py"))}
 
@@ -98,6 +105,33 @@ class Code(unittest.TestCase):
             for node in nodes:
                 if isinstance(node, ast.Name):
                     self.assertIn(node.id, known, file)
+
+    def test_methods_and_attributes(self):
+        methods, attributes = set(), set()
+        for tree in trees().values():
+            for node in ast.walk(tree):
+                if isinstance(node, ast.ClassDef):
+                    methods |= {part.name for part in node.body if isinstance(part, ast.FunctionDef)}
+                if isinstance(node, ast.Attribute) and isinstance(node.ctx, ast.Store):
+                    attributes.add(node.attr)
+        self.assertEqual(methods & attributes, set())
+        for name in methods | attributes:
+            for kind in (str, int, list, dict, set, bytes):
+                self.assertFalse(hasattr(kind, name) and not name.startswith("__"), name)
+        for file, tree in trees().items():
+            for node in ast.walk(tree):
+                if isinstance(node, ast.Call) and isinstance(node.func, ast.Attribute):
+                    self.assertIn(node.func.attr, METHODS + sorted(methods), file)
+                elif isinstance(node, ast.Attribute):
+                    self.assertIn(node.attr, sorted(methods | attributes) + METHODS, file)
+
+    def test_powers_and_generators(self):
+        # Where a class has __eq__, the builtins take lists; so generator expressions are left out throughout.
+        for file, tree in trees().items():
+            for node in ast.walk(tree):
+                self.assertNotIsInstance(node, (ast.GeneratorExp, ast.Yield, ast.YieldFrom, ast.NamedExpr), file)
+                if isinstance(node, ast.BinOp) and isinstance(node.op, ast.Pow):
+                    self.assertIsInstance(node.right, ast.Constant, file)
 
     def test_no_barred_syntax(self):
         barred = (ast.Global, ast.AsyncFunctionDef, ast.Await, ast.Div, ast.Import)

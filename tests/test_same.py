@@ -6,8 +6,8 @@ from partnercall.errors import OtherSize
 from partnercall.same import do_same, parting, shows_parting
 from partnercall.sheets import empty_sheet, sheet_of
 from support import (
-    ODD_VALUES, all_joinings, check_answer, check_error, fixed_chance, lower_pairs_of, result_reached, sheet_of_joins,
-    sheet_of_strands, some_joining, some_sheet, some_word,
+    ODD_VALUES, all_joinings, check_answer, check_error, fixed_chance, parts_of, result_reached, sheet_of_joins,
+    sheet_of_strands, some_joining, some_sheet, some_word, with_strands_in_order,
 )
 
 ONE = (1, 0, 6, 7, 5, 4, 2, 3)
@@ -15,20 +15,6 @@ WIDE = (1, 0, 8, 9, 10, 11, 7, 6, 2, 3, 4, 5)
 WIDE_ELSEWHERE = (6, 7, 3, 2, 10, 11, 0, 1, 9, 8, 4, 5)
 # All orders of four that leave no results changed: the four as they are, and crossed in the three ways.
 FOUR_THE_SAME = [[0, 1, 2, 3], [1, 0, 3, 2], [2, 3, 0, 1], [3, 2, 1, 0]]
-
-
-def parts_of(sheet):
-    """The upper pairs, the lower pairs and the strands of a sheet."""
-    size = len(sheet) // 2
-    upper = [(x, sheet[x]) for x in range(size) if x < sheet[x] < size]
-    return upper, lower_pairs_of(sheet), [(x, sheet[x] - size) for x in range(size) if sheet[x] >= size]
-
-
-def with_strands_in_order(sheet, order):
-    """The sheet with the lower ends of its first strands in another order."""
-    upper, lower, between = parts_of(sheet)
-    moved = [(between[at][0], between[order[at]][1]) for at in range(len(order))]
-    return sheet_of_joins(len(sheet) // 2, upper, lower, moved + between[len(order):])
 
 
 def results_of_all(sheet):

@@ -8,7 +8,7 @@ from partnercall.settling import (
 )
 from partnercall.sheets import empty_sheet, sheet_of, with_call
 from support import (
-    all_joinings, along_one_by_one, check_answer, check_error, check_great, fixed_chance, lower_pairs_of,
+    all_calls, all_joinings, along_one_by_one, check_answer, check_error, check_great, fixed_chance, lower_pairs_of,
     result_reached, some_joining, some_sheet,
 )
 
@@ -19,10 +19,6 @@ MANY = {0: 1, 2: 1, 4: 3, 6: 15, 8: 105, 10: 945, 12: 10395, 14: 135135, 16: 202
 
 def all_results(sheet):
     return sorted({result_reached(sheet, pairing) for pairing in all_joinings(len(sheet) // 2)})
-
-
-def all_calls(size):
-    return [(a, b) for a in range(size) for b in range(a + 1, size)]
 
 
 def small_sheets():
