@@ -125,6 +125,40 @@ def along_one_by_one(pairing, word):
     return along
 
 
+def cycles_many(one, other):
+    """The number of groups of people who are reached from each other by going from partner to partner."""
+    left = set(range(len(one)))
+    many = 0
+    while left:
+        many += 1
+        reached = {min(left)}
+        while not {one[x] for x in reached} | {other[x] for x in reached} <= reached:
+            reached |= {one[x] for x in reached} | {other[x] for x in reached}
+        left -= reached
+    return many
+
+
+def first_way(one, other):
+    """The first shortest word from one pairing to another: each time the first call that makes one more group."""
+    word = []
+    while one != other:
+        call = next(call for call in all_calls(len(one))
+                    if cycles_many(one_call(one, call), other) > cycles_many(one, other))
+        word.append(call)
+        one = one_call(one, call)
+    return word
+
+
+def without_couple(pairing, person):
+    """The pairing of the others, by giving them new numbers."""
+    gone = {person, pairing[person]}
+    new = {}
+    for x in range(len(pairing)):
+        if x not in gone:
+            new[x] = len(new)
+    return tuple(new[pairing[x]] for x in range(len(pairing)) if x not in gone)
+
+
 def ends_reached(sheet, pairing, person):
     """All ends that are reached from a person's lower end along joins and couples, the nearer ones first."""
     size = len(sheet) // 2

@@ -4,10 +4,11 @@ import re
 import unittest
 
 from partnercall import (
-    between, calls, errors, fewest, pairings, reading, repeats, results, same, settling, sheets, small,
+    between, calls, desk, errors, fewest, hall, pairings, people, reading, repeats, results, same, settling, sheets,
+    small, texts,
 )
 
-# The text of the examples of points [4] to [14].
+# The text of the examples of points [4] to [19].
 EXAMPLES = """
 >>> [is_pairing((1, 0, 3, 2)), is_pairing((1, 2, 0, 3))]
 [True, False]
@@ -103,12 +104,44 @@ raises NoWord
 [[(0, 1), (1, 2)], None]
 >>> [words_with(one, 1), words_with(one, 2), words_with(empty_sheet(4), 1)]
 [1, 1, 0]
+>>> [renumbered(q, (1, 0, 2, 3)), word_renumbered([(0, 2)], (3, 1, 2, 0)), sheet_renumbered(one, (2, 3, 0, 1))]
+[(3, 2, 1, 0), [(2, 3)], (4, 5, 3, 2, 0, 1, 7, 6)]
+>>> [joined(p, (1, 0)), sheets_joined(empty_sheet(2), (1, 0, 3, 2))]
+[(1, 0, 3, 2, 5, 4), (4, 5, 3, 2, 0, 1, 7, 6)]
+>>> without((3, 4, 5, 0, 1, 2), 1)
+(2, 3, 0, 1)
+>>> [Hall(p).call(1, 2), Hall(p).call(0, 1)]
+[(0, 3), None]
+>>> Hall(p).run([(1, 2), (1, 2), (0, 1)])
+2
+>>> Hall(q).repeat([(0, 1)], 10 ** 12)
+4
+>>> Hall(p).become(q)
+[(0, 2)]
+>>> [Hall(p).come(), Hall(q).leave(1)]
+[(4, 5), 3]
+>>> Hall(p).do([("call", 1, 2), ("come",), ("leave", 0)])
+[(0, 3), (4, 5), 3]
+>>> Hall(p).do([("call", 1, 2), ["come"]])
+raises BadDeed(at=1)
+>>> [repr(Hall(p)), len(Hall(p)), Hall(p) == Hall([1, 0, 3, 2])]
+['Hall(4 people)', 4, True]
+>>> [pairing_text(q), word_text([(0, 1), (1, 2)]), word_text([])]
+['0-2 1-3', '0-1 1-2', '.']
+>>> [pairing_in("0-2 1-3"), word_in("0-1 5-9"), word_in(".")]
+[(2, 3, 0, 1), [(0, 1), (5, 9)], []]
+>>> pairing_in("0-2 1-2")
+raises BadText(at=1)
+>>> answers("0-1 2-3\\ncall 1-2\\nshow\\npartner 3\\nresults 0-1\\nfewest 0-1 1-2\\nbecome 0-2 1-3\\nundo\\nleave 9")
+['0-3', '0-3 1-2', '0', '1', '2', '0-2', 'done', 'refused NoPerson']
 """
 
 
 def names_for_examples():
     names = {}
-    for module in (pairings, calls, sheets, reading, results, same, settling, between, fewest, repeats, small):
+    modules = (pairings, calls, sheets, reading, results, same, settling, between, fewest, repeats, small, people, hall,
+               texts, desk)
+    for module in modules:
         names.update(vars(module))
     names["p"] = (1, 0, 3, 2)
     names["q"] = (2, 3, 0, 1)
@@ -128,7 +161,7 @@ class Examples(unittest.TestCase):
     def test_examples(self):
         names = names_for_examples()
         lines = EXAMPLES.strip().split("\n")
-        self.assertEqual(len(lines), 2 * 47)
+        self.assertEqual(len(lines), 2 * 62)
         for query, expected in zip(lines[::2], lines[1::2]):
             with self.subTest(query):
                 self.assertTrue(query.startswith(">>> "))
